@@ -1,0 +1,1 @@
+"""Shareones: numbers as shares of ones in rows of bits."""

@@ -1,0 +1,122 @@
+"""Those rules of LANGUAGE.md that a look at the package's files can tell, by their numbers."""
+
+import ast
+import builtins
+import re
+import unittest
+from pathlib import Path
+
+PACKAGE = Path(__file__).resolve().parent.parent / "shareones"
+FILES = sorted(path for path in PACKAGE.rglob("*") if path.is_file() and "__pycache__" not in path.parts)
+
+BUILTINS = set(
+    "len range enumerate zip min max sum abs sorted reversed int str bool bytes list tuple dict set frozenset "
+    "isinstance ord repr any all divmod iter next property staticmethod classmethod super Exception ValueError "
+    "TypeError KeyError IndexError LookupError ZeroDivisionError ArithmeticError OverflowError RuntimeError "
+    "NotImplementedError AttributeError StopIteration NotImplemented".split())
+BARRED_NAMES = set("register mro elements open input version_info with_traceback add_note format format_map".split())
+BARRED_WORDS = re.compile(
+    r"\b(type|typing|typing_extensions|enum|Enum|IntEnum|StrEnum|Flag|IntFlag|Generic|Protocol|ABC|ABCMeta|namedtuple"
+    r"|NamedTuple|TypedDict|TYPE_CHECKING|abstractmethod)\b|dataclass|overload|contextmanager")
+BARRED_STATEMENTS = (ast.Global, ast.AsyncFunctionDef, ast.AsyncFor, ast.AsyncWith, ast.Await, ast.Import)
+
+
+def tree_of(path):
+    return ast.parse(path.read_text("ascii"))
+
+
+def bound_names(tree):
+    """The names of parameters and variables that a file's functions bind."""
+    for node in ast.walk(tree):
+        if isinstance(node, ast.arg):
+            yield node.arg, node
+        if isinstance(node, ast.Name) and isinstance(node.ctx, ast.Store):
+            yield node.id, node
+
+
+class Language(unittest.TestCase):
+    def each_node(self):
+        for path in FILES:
+            for node in ast.walk(tree_of(path)):
+                yield f"{path.name}:{getattr(node, 'lineno', 0)}", node
+
+    def test_files_and_characters(self):
+        """L1, L10, L14, L17."""
+        self.assertIn(PACKAGE / "__init__.py", FILES)
+        for path in FILES:
+            self.assertRegex(path.name, r"\A(__init__|[a-z][a-z0-9_]*)\.py\Z")
+            text = path.read_bytes().decode("ascii")
+            self.assertIsNone(re.search(r"[^\n -~]", text), path.name)
+            self.assertIsNone(BARRED_WORDS.search(text), path.name)
+            rows = text.splitlines()
+            self.assertLessEqual(len(rows), 400, path.name)
+            self.assertLessEqual(max(map(len, rows)), 120, path.name)
+
+    def test_imports(self):
+        """L2, L16: from the very file of the package that defines the name, and never in a circle."""
+        ahead = {}
+        for path in FILES:
+            ahead[path.stem] = set()
+            for node in ast.walk(tree_of(path)):
+                if isinstance(node, ast.ImportFrom):
+                    self.assertRegex(node.module, r"\Ashareones\.[a-z_]+\Z")
+                    stem = node.module.split(".")[1]
+                    ahead[path.stem].add(stem)
+                    defined = {part.name for part in tree_of(PACKAGE / f"{stem}.py").body if hasattr(part, "name")}
+                    defined |= {part.targets[0].id for part in tree_of(PACKAGE / f"{stem}.py").body
+                                if isinstance(part, ast.Assign)}
+                    self.assertLessEqual({alias.name for alias in node.names}, defined, path.name)
+        while ahead:
+            free = [stem for stem in ahead if not ahead[stem]]
+            self.assertTrue(free, f"imports in a circle: {sorted(ahead)}")
+            ahead = {stem: ahead[stem] - set(free) for stem in ahead if stem not in free}
+
+    def test_module_level(self):
+        """L3: a docstring, imports, functions, classes and names of plain values."""
+        plain = (ast.ImportFrom, ast.FunctionDef, ast.ClassDef, ast.Assign)
+        for path in FILES:
+            first, *others = tree_of(path).body
+            self.assertIsInstance(first, ast.Expr, path.name)
+            for node in others:
+                self.assertIsInstance(node, plain, path.name)
+
+    def test_functions_are_short(self):
+        """L10."""
+        for where, node in self.each_node():
+            if isinstance(node, ast.FunctionDef):
+                self.assertLessEqual(node.end_lineno - node.lineno + 1, 40, where)
+
+    def test_names(self):
+        """L8, L12, L15, L17."""
+        for path in FILES:
+            tree = tree_of(path)
+            imported = {alias.name for node in tree.body if isinstance(node, ast.ImportFrom) for alias in node.names}
+            classes = {node.name for node in tree.body if isinstance(node, ast.ClassDef)}
+            for name, node in bound_names(tree):
+                where = f"{path.name}:{node.lineno} {name}"
+                self.assertRegex(name, r"\A[A-Za-z][A-Za-z0-9_]*\Z", where)
+                self.assertNotIn(name, imported | classes | BARRED_NAMES | set(dir(builtins)), where)
+            for node in ast.walk(tree):
+                if isinstance(node, ast.Name) and node.id in dir(builtins):
+                    self.assertIn(node.id, BUILTINS, f"{path.name}:{node.lineno}")
+                if isinstance(node, (ast.FunctionDef, ast.ClassDef)):
+                    self.assertNotIn(node.name, BARRED_NAMES | set(dir(builtins)), f"{path.name}:{node.lineno}")
+
+    def test_expressions_and_statements(self):
+        """L6, L7, L20, L27: no float, no `/`, no power by a name, no percent sign, `is` with constants only."""
+        for where, node in self.each_node():
+            self.assertNotIsInstance(node, BARRED_STATEMENTS, where)
+            if isinstance(node, ast.Constant):
+                self.assertNotIsInstance(node.value, (float, complex), where)
+                if isinstance(node.value, str):
+                    self.assertNotIn("%", node.value, where)
+            if isinstance(node, (ast.BinOp, ast.AugAssign)):
+                self.assertNotIsInstance(node.op, (ast.Div, ast.MatMult), where)
+            if isinstance(node, ast.BinOp) and isinstance(node.op, ast.Pow):
+                self.assertIsInstance(node.right, ast.Constant, where)
+            if isinstance(node, ast.Compare) and any(isinstance(op, (ast.Is, ast.IsNot)) for op in node.ops):
+                self.assertIsInstance(node.comparators[0], ast.Constant, where)
+
+
+if __name__ == "__main__":
+    unittest.main()
