@@ -1,14 +1,14 @@
 """Rows: tuples of 1 to 4,096 bits, and what comes of them place by place."""
 
 from shareones.errors import Unlike
-from shareones.shares import fraction, is_number
+from shareones.shares import fraction, is_within
 
 LONGEST = 4096
 
 
 def is_bit(thing):
     """Tell whether a thing is the number 0 or 1."""
-    return is_number(thing) and 0 <= thing <= 1
+    return is_within(thing, 0, 1)
 
 
 def is_row(thing):

@@ -7,6 +7,11 @@ def is_number(thing):
     return isinstance(thing, int) and not isinstance(thing, bool)
 
 
+def is_within(thing, least, greatest):
+    """Tell whether a thing is a whole number from least to greatest."""
+    return is_number(thing) and least <= thing <= greatest
+
+
 def common_divisor(one, other):
     """Tell the greatest common divisor of two numbers, above 0 whatever their signs are."""
     one = abs(one)
@@ -45,11 +50,16 @@ def before(one, other):
     return one[0] * other[1] < other[0] * one[1]
 
 
-def is_share(thing):
-    """Tell whether a thing is a fraction from (0, 1) to (1, 1)."""
+def is_fraction(thing):
+    """Tell whether a thing is a tuple (top, bottom) in lowest terms, bottom above 0."""
     if not isinstance(thing, tuple) or len(thing) != 2:
         return False
     top, bottom = thing
     if not is_number(top) or not is_number(bottom):
         return False
-    return 0 <= top <= bottom and bottom > 0 and common_divisor(top, bottom) == 1
+    return bottom > 0 and common_divisor(top, bottom) == 1
+
+
+def is_share(thing):
+    """Tell whether a thing is a fraction from (0, 1) to (1, 1)."""
+    return is_fraction(thing) and 0 <= thing[0] <= thing[1]

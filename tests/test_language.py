@@ -18,6 +18,11 @@ BARRED_NAMES = set("register mro elements open input version_info with_traceback
 BARRED_WORDS = re.compile(
     r"\b(type|typing|typing_extensions|enum|Enum|IntEnum|StrEnum|Flag|IntFlag|Generic|Protocol|ABC|ABCMeta|namedtuple"
     r"|NamedTuple|TypedDict|TYPE_CHECKING|abstractmethod)\b|dataclass|overload|contextmanager")
+METHODS = set(
+    "append clear copy count endswith extend find get index insert isalnum isalpha isdigit islower isspace isupper items "
+    "join keys ljust lower lstrip partition pop remove replace reverse rfind rjust rpartition rsplit rstrip setdefault "
+    "split splitlines startswith strip update upper values zfill bit_length".split())
+PATTERNS = (ast.MatchValue, ast.MatchSingleton, ast.MatchSequence, ast.MatchAs, ast.MatchStar, ast.MatchOr)
 BARRED_STATEMENTS = (ast.Global, ast.AsyncFunctionDef, ast.AsyncFor, ast.AsyncWith, ast.Await, ast.Import)
 
 
@@ -32,6 +37,12 @@ def bound_names(tree):
             yield node.arg, node
         if isinstance(node, ast.Name) and isinstance(node.ctx, ast.Store):
             yield node.id, node
+        if isinstance(node, (ast.MatchAs, ast.MatchStar)) and node.name is not None:
+            yield node.name, node
+
+
+def captured_names(function):
+    return {node.name for node in ast.walk(function) if isinstance(node, (ast.MatchAs, ast.MatchStar)) and node.name}
 
 
 class Language(unittest.TestCase):
@@ -116,6 +127,42 @@ class Language(unittest.TestCase):
                 self.assertIsInstance(node.right, ast.Constant, where)
             if isinstance(node, ast.Compare) and any(isinstance(op, (ast.Is, ast.IsNot)) for op in node.ops):
                 self.assertIsInstance(node.comparators[0], ast.Constant, where)
+
+    def test_matches(self):
+        """L6: plain patterns, and a captured name that means nothing else in its function."""
+        for where, node in self.each_node():
+            if isinstance(node, ast.pattern):
+                self.assertIsInstance(node, PATTERNS, where)
+            if isinstance(node, ast.MatchValue):
+                self.assertIsInstance(node.value, ast.Constant, where)
+            if isinstance(node, (ast.FunctionDef, ast.Lambda)):
+                captured = captured_names(node)
+                for part in ast.walk(node):
+                    if isinstance(part, ast.arg):
+                        self.assertNotIn(part.arg, captured, where)
+                    if isinstance(part, ast.Name) and isinstance(part.ctx, ast.Store):
+                        self.assertNotIn(part.id, captured, where)
+                    if isinstance(part, (ast.Lambda, ast.FunctionDef)) and part != node:
+                        self.assertFalse(captured & {inner.id for inner in ast.walk(part) if isinstance(inner, ast.Name)})
+
+    def test_methods(self):
+        """L25, L26: methods of builtin values from the list, or the package's own."""
+        own = {node.name for _, node in self.each_node() if isinstance(node, ast.FunctionDef)}
+        for where, node in self.each_node():
+            if isinstance(node, ast.Call) and isinstance(node.func, ast.Attribute):
+                self.assertIn(node.func.attr, METHODS | own, where)
+
+    def test_module_values_are_not_changed(self):
+        """L15: a name of the module level is bound once, and its lists and dicts are only read."""
+        for path in FILES:
+            body = tree_of(path).body
+            names = [node.targets[0].id for node in body if isinstance(node, ast.Assign)]
+            names += [node.name for node in body if isinstance(node, (ast.FunctionDef, ast.ClassDef))]
+            names += [alias.name for node in body if isinstance(node, ast.ImportFrom) for alias in node.names]
+            self.assertEqual(len(names), len(set(names)), path.name)
+            for node in ast.walk(tree_of(path)):
+                if isinstance(node, ast.Subscript) and not isinstance(node.ctx, ast.Load):
+                    self.assertNotIn(getattr(node.value, "id", None), names, f"{path.name}:{node.lineno}")
 
 
 if __name__ == "__main__":

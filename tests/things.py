@@ -48,3 +48,50 @@ def kinds(thing):
     if isinstance(thing, (tuple, list)):
         return (type(thing).__name__, [kinds(part) for part in thing])
     return (type(thing).__name__, thing)
+
+
+UNEVEN_TABLE = tuple(at * at % 61 for at in range(64))
+
+# Each kind of plain maker at both ends of its bounds and between them.
+PLAIN_MAKERS = (
+    ("counter", 1, 1, 0), ("counter", 2, 1, 1), ("counter", 5, 3, 4), ("counter", 12, 7, 0), ("counter", 63, 62, 5),
+    ("counter", 64, 1, 0), ("counter", 64, 63, 63), ("turned", 1, 0), ("turned", 1, 1), ("turned", 3, 5),
+    ("turned", 6, 0), ("turned", 6, 63), ("register", 2, 2, 1), ("register", 2, 3, 3), ("register", 3, 5, 6),
+    ("register", 4, 9, 1), ("register", 4, 15, 15), ("register", 6, 32, 1), ("register", 6, 33, 1),
+    ("register", 6, 63, 63), ("table", (0,)), ("table", (63,)), ("table", (0, 1)), ("table", (5, 0, 5, 2, 2)),
+    ("table", (3, 0, 1, 2, 3, 1, 2, 0)), ("table", (63,) * 64), ("table", UNEVEN_TABLE),
+)
+
+
+def around(makers, manys, bys):
+    told = [(word, many, maker) for word in ("slow", "slip") for many in manys for maker in makers]
+    return told + [("late", by, maker) for by in bys for maker in makers]
+
+
+# Two of these are within the bounds although a maker within them has a longer round than a maker may have.
+DEEP_MAKERS = (
+    ("slow", 3, ("slow", 2, ("counter", 5, 2, 1))), ("slip", 2, ("slip", 3, ("counter", 12, 5, 3))),
+    ("late", 64, ("late", 3, ("slip", 4, ("turned", 3, 1)))), ("slow", 2, ("late", 3, ("slip", 5, ("counter", 6, 5, 2)))),
+    ("slip", 5, ("slow", 3, ("late", 7, ("register", 3, 5, 1)))), ("late", 9, ("slip", 3, ("slow", 5, ("table", (4, 0, 4))))),
+    ("slip", 1, ("slow", 64, ("slow", 2, ("counter", 64, 1, 0)))),
+    ("slip", 2, ("slow", 64, ("slow", 32, ("table", (7, 0, 7))))),
+    ("slip", 7, ("slow", 64, ("slow", 64, ("table", (1,))))), ("slow", 13, ("slow", 5, ("counter", 63, 2, 1))),
+    ("slow", 1, ("slip", 1, ("late", 0, ("counter", 1, 1, 0)))),
+)
+MAKERS = PLAIN_MAKERS + tuple(around(PLAIN_MAKERS, (1, 2, 5, 64), (0, 1, 64))) + DEEP_MAKERS
+SMALL_MAKERS = (
+    ("counter", 1, 1, 0), ("counter", 2, 1, 0), ("counter", 3, 2, 1), ("counter", 4, 3, 2), ("counter", 6, 1, 0),
+    ("turned", 2, 1), ("register", 2, 3, 1), ("register", 3, 5, 1), ("table", (2, 0, 2)), ("table", (0, 0, 1, 1)),
+    ("table", (0, 1, 1, 0)), ("slow", 2, ("counter", 2, 1, 0)), ("slip", 2, ("counter", 4, 1, 0)),
+    ("slip", 4, ("turned", 2, 0)), ("late", 3, ("counter", 5, 2, 0)), ("slow", 3, ("late", 1, ("table", (1, 1, 4)))),
+    ("slip", 1, ("counter", 2, 1, 1)),
+)
+
+
+def with_other_parts(thing, others):
+    """The thing with each of its parts, at every depth, put out for each of the others, left out, and told twice."""
+    told = list(others) + [list(thing), thing + (thing[-1],)] + [thing[:at] + thing[at + 1:] for at in range(len(thing))]
+    for at, part in enumerate(thing):
+        changed = with_other_parts(part, others) if isinstance(part, tuple) and part else list(others)
+        told += [thing[:at] + (new,) + thing[at + 1:] for new in changed]
+    return told
