@@ -10,6 +10,7 @@ GREATEST_INPUT = 5
 MOST_PARTS = 24
 DEEPEST = 8
 WHOLE = (1, 1)
+NOUGHT = (0, 1)
 
 
 def is_part(thing):
@@ -54,6 +55,12 @@ def inputs_of(formula):
     return sorted({part[1] for part in parts_of(formula) if part[0] == "in"})
 
 
+def thing_at(things, i, other):
+    """Tell the thing at place i of a list, the other one where the list is too short."""
+    # A list that is too short is beyond the bounds, but nothing is to be raised for it.
+    return things[i] if 0 <= i < len(things) else other
+
+
 def row_within(formula, rows):
     """Tell the row that comes of a formula, rows being by i and of one length."""
     match formula:
@@ -74,7 +81,8 @@ def row_within(formula, rows):
 def row_by(formula, rows):
     """Tell the row that comes of a list of rows by a formula; all of them must be of one length."""
     refuse_unlike(rows)
-    return row_within(formula, rows)
+    noughts = (0,) * len(thing_at(rows, 0, ()))
+    return row_within(formula, {i: thing_at(rows, i, noughts) for i in inputs_of(formula)})
 
 
 def either_share(x, y):
@@ -96,7 +104,7 @@ def plain_share(formula, shares):
     """Tell what comes of the shares step by step, as if no two sides leaned on one another."""
     match formula:
         case ("in", i):
-            return shares[i]
+            return thing_at(shares, i, NOUGHT)
         case ("less", f):
             return minus(WHOLE, plain_share(f, shares))
         case ("both", f, g):
@@ -118,7 +126,8 @@ def weight_of(choice, rows, shares):
     """Tell the product of the shares of the i's whose row has 1 at the choice's place, and of 1 less the others'."""
     weight = WHOLE
     for i in rows:
-        weight = times(weight, shares[i] if rows[i][choice] == 1 else minus(WHOLE, shares[i]))
+        share = thing_at(shares, i, NOUGHT)
+        weight = times(weight, share if rows[i][choice] == 1 else minus(WHOLE, share))
     return weight
 
 
@@ -128,7 +137,7 @@ def true_share(formula, shares):
     many = 1 << len(inputs)
     # Each place of these rows is one choice of a bit for each i.
     rows = {i: bits_at(at, many) for at, i in enumerate(inputs)}
-    told = (0, 1)
+    told = NOUGHT
     for choice, bit in enumerate(row_within(formula, rows)):
         if bit == 1:
             told = plus(told, weight_of(choice, rows, shares))

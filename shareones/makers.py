@@ -70,9 +70,15 @@ def last_for_first(number, wide):
     return told
 
 
+def size_of(wide):
+    """Tell how many numbers have at most so many bits."""
+    # A wide below 0 is beyond the bounds, but nothing is to be raised for it.
+    return 1 << max(wide, 0)
+
+
 def turned_round(wide, start):
     """Tell the list of a turned one's numbers over a round."""
-    size = 1 << wide
+    size = size_of(wide)
     return [last_for_first((start + t) % size, wide) for t in range(size)]
 
 
@@ -87,7 +93,7 @@ def odd_ones(number):
 
 def held_round(wide, taps, start):
     """Tell the list of what a register holds over a round."""
-    size = 1 << wide
+    size = size_of(wide)
     told = []
     held = start
     # Beyond the bounds of taps and start it may never hold start again; this ends it then, too.
@@ -139,9 +145,9 @@ def top_of(maker):
         case ("table", numbers):
             return max(numbers, default=-1) + 1
         case ("turned", wide, start):
-            return 1 << wide
+            return size_of(wide)
         case ("register", wide, taps, start):
-            return 1 << wide
+            return size_of(wide)
 
 
 def inner_beat(maker, t):

@@ -347,6 +347,16 @@ class BeyondTheBounds(unittest.TestCase):
         self.assertEqual(apart(("counter", 65, 1, 0), ("counter", 67, 1, 0)), ("apart", 65 * 67))
         self.assertEqual(apart(("table", (64, 65)), ("table", (64, 65)))[0], "apart")
         self.assertEqual(Fraction(*apart(("counter", 65, 1, 0), ("counter", 65, 1, 0))[4]), Fraction(1, 65))
+        five = ("counter", 5, 1, 0)
+        for beyond in (("turned", -1, 0), ("register", -1, 1, 1), ("table", ()), ("slow", 0, five), ("slip", -1, five)):
+            for one, other in ((beyond, five), (five, beyond), (beyond, beyond)):
+                pairs_met(one, other)
+                self.assertIn(apart(one, other)[0], ("apart", "lean"))
+                self.assertIn(all_apart([one, other, one]), (True, False))
+                shows_lean(one, other, ("lean", 1, 1, 1, (1, 5)))
+                slowed(one, other)
+                slipped(one, other)
+                parted_by(one, other)
 
 
 if __name__ == "__main__":

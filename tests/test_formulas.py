@@ -7,7 +7,7 @@ from shareones.errors import OnesError, Unlike
 from shareones.formulas import answer, first_lean, inputs_of, is_formula, plain_share, row_by, true_share
 from shareones.makers import round_of, row_of, share_told
 from shareones.rows import share_of
-from things import LONG_ROWS, PLAIN, SMALL_MAKERS, kinds, nested, odd_things, rows_of, with_other_parts
+from things import LONG_ROWS, PLAIN, SMALL_MAKERS, chain, comb, kinds, nested, odd_things, rows_of, with_other_parts
 from words import as_tuple
 
 SIDES = {"less": 1, "both": 2, "either": 2, "oneof": 2, "pick": 3}
@@ -24,22 +24,6 @@ TWO_WORDS = built(IN[1:2] + ONE_WORD[::4])
 THREE_WORDS = built(IN[4:] + TWO_WORDS[5::97])
 # Of those with three words within one another some have more parts than a formula may have.
 FORMULAS = IN + ONE_WORD + TWO_WORDS[::13] + [told for told in THREE_WORDS[::331] if str(told).count("(") <= 24]
-
-
-def chain(depth):
-    """A formula with so many within one another."""
-    told = ("in", 0)
-    for _ in range(depth - 1):
-        told = ("less", told)
-    return told
-
-
-def comb(parts):
-    """A formula of so many parts, an odd number, few of them within one another."""
-    sides = [("in", at % 6) for at in range(parts // 2 + 1)]
-    while len(sides) > 1:
-        sides = sides[2:] + [("both", sides[0], sides[1])]
-    return sides[0]
 
 
 def parts_by_the_words(formula):
@@ -382,6 +366,18 @@ class BeyondTheBounds(unittest.TestCase):
             self.assertEqual(len(plain_share(formula, shares)), 2)
             self.assertEqual(len(true_share(formula, shares)), 2)
             first_lean(formula)
+
+    def test_nor_where_a_list_is_too_short(self):
+        formula = ("pick", ("in", 2), ("in", 0), ("less", ("in", 5)))
+        for many in range(4):
+            self.assertEqual(len(row_by(formula, [(1, 0, 1)] * many)), 3 if many else 0)
+            self.assertEqual(len(plain_share(formula, [(1, 2)] * many)), 2)
+            self.assertEqual(len(true_share(formula, [(1, 2)] * many)), 2)
+            self.assertEqual(len(answer(formula, [("counter", 3, 1, 0)] * many, [1] * many)), 3)
+            self.assertEqual(len(answer(formula, [("counter", 3, 1, 0)] * 6, [1] * many)), 3)
+        self.assertEqual(len(row_by(("in", -1), [(1, 0)])), 2)
+        self.assertEqual(len(plain_share(("in", -7), [(1, 2)])), 2)
+        self.assertEqual(len(true_share(("in", -7), [(1, 2)])), 2)
 
 
 if __name__ == "__main__":

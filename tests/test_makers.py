@@ -347,6 +347,10 @@ class BeyondTheBounds(unittest.TestCase):
         beyond = [("counter", 65, 1, 0), ("counter", 4, 2, 9), ("turned", 7, 0), ("register", 3, 3, 1), ("register", 3, 1, 9)]
         beyond += [("register", 3, 4, 0), ("table", ()), ("table", (64, 0)), ("slow", 0, C64), ("slip", 0, C64)]
         beyond += [("late", 65, C64), ("late", 0, ("late", 0, ("late", 0, ("late", 0, C64)))), ("slow", 65, C64)]
+        beyond += [("turned", wide, start) for wide in (0, -1, -2, -9) for start in (-1, 0, 1)]
+        beyond += [("register", wide, taps, start) for wide in (1, 0, -1, -9) for taps in (-1, 0, 1) for start in (-1, 0, 1)]
+        beyond += [("slow", 2, ("turned", -1, 0)), ("late", 1, ("register", -1, 1, 1)), ("slip", 2, ("register", -2, 1, 1))]
+        beyond += [("counter", 0, 1, 0), ("counter", -1, 1, 0), ("slow", -1, C64), ("slip", -1, C64), ("late", -1, C64)]
         for maker in beyond:
             self.assertIs(is_maker(maker), False)
             for told in (round_of(maker), top_of(maker), value_at(maker, 10 ** 9 + 1), nearest(maker, (1, 2))):

@@ -95,3 +95,19 @@ def with_other_parts(thing, others):
         changed = with_other_parts(part, others) if isinstance(part, tuple) and part else list(others)
         told += [thing[:at] + (new,) + thing[at + 1:] for new in changed]
     return told
+
+
+def chain(depth):
+    """A formula with so many within one another."""
+    told = ("in", 0)
+    for _ in range(depth - 1):
+        told = ("less", told)
+    return told
+
+
+def comb(parts):
+    """A formula of so many parts, an odd number, few of them within one another."""
+    sides = [("in", at % 6) for at in range(parts // 2 + 1)]
+    while len(sides) > 1:
+        sides = sides[2:] + [("both", sides[0], sides[1])]
+    return sides[0]
