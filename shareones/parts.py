@@ -5,13 +5,17 @@ from shareones.rows import ones
 from shareones.shares import before, fraction
 
 
-def offs_of(row):
-    """Tell the list of what the first n bits are off, times the length, for n from 0 on: below 0 for too few."""
-    many = ones(row)
+def offs_by(row, many, length):
+    """Tell the list of what the first n bits are off n times many by length, times length: below 0 for too few."""
     offs = [0]
     for bit in row:
-        offs.append(offs[-1] + len(row) * bit - many)
+        offs.append(offs[-1] + length * bit - many)
     return offs
+
+
+def offs_of(row):
+    """Tell the list of what the first n bits are off the row's share, times its length, for n from 0 on."""
+    return offs_by(row, ones(row), len(row))
 
 
 def worst_part(row):

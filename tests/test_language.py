@@ -21,8 +21,13 @@ BARRED_WORDS = re.compile(
 METHODS = set(
     "append clear copy count endswith extend find get index insert isalnum isalpha isdigit islower isspace isupper items "
     "join keys ljust lower lstrip partition pop remove replace reverse rfind rjust rpartition rsplit rstrip setdefault "
-    "split splitlines startswith strip update upper values zfill bit_length".split())
+    "split splitlines startswith strip update upper values zfill bit_length title capitalize swapcase casefold center "
+    "expandtabs removeprefix removesuffix rindex isascii isdecimal isnumeric istitle isidentifier isprintable".split())
 PATTERNS = (ast.MatchValue, ast.MatchSingleton, ast.MatchSequence, ast.MatchAs, ast.MatchStar, ast.MatchOr)
+AT_ONCE = set("zip enumerate range reversed".split())
+TAKING = set("list tuple dict sorted sum any all enumerate zip min max".split())
+KEYWORDS = {"sorted": {"key", "reverse"}, "min": {"key", "default"}, "max": {"key", "default"}, "sum": {"start"},
+            "enumerate": {"start"}, "zip": {"strict"}}
 BARRED_STATEMENTS = (ast.Global, ast.AsyncFunctionDef, ast.AsyncFor, ast.AsyncWith, ast.Await, ast.Import)
 
 
@@ -163,6 +168,62 @@ class Language(unittest.TestCase):
             for node in ast.walk(tree_of(path)):
                 if isinstance(node, ast.Subscript) and not isinstance(node.ctx, ast.Load):
                     self.assertNotIn(getattr(node.value, "id", None), names, f"{path.name}:{node.lineno}")
+
+    def test_classes(self):
+        """L5, L18: plain methods only, and no name that is a method of one class and an attribute of another."""
+        methods, assigned, read = set(), set(), set()
+        classes = [node for _, node in self.each_node() if isinstance(node, ast.ClassDef)]
+        for node in classes:
+            self.assertEqual((node.decorator_list, len(node.bases) <= 1), ([], True), node.name)
+            for part in node.body:
+                self.assertIsInstance(part, (ast.FunctionDef, ast.Expr), node.name)
+                if isinstance(part, ast.FunctionDef):
+                    self.assertRegex(part.name, r"\A(__init__|[a-z][a-z0-9_]*)\Z")
+                    methods.add(part.name)
+        for where, node in self.each_node():
+            if isinstance(node, ast.Attribute):
+                self.assertIsInstance(node.value, (ast.Name, ast.Attribute, ast.Constant, ast.Call, ast.Subscript), where)
+                (assigned if isinstance(node.ctx, ast.Store) else read).add(node.attr)
+        self.assertFalse(methods & assigned)
+        self.assertLessEqual(read, methods | assigned | METHODS)
+
+    def test_functions_are_plain(self):
+        """L4: no decorators, stars or defaults; here there are no nested functions and lambdas either."""
+        for where, node in self.each_node():
+            self.assertNotIsInstance(node, ast.Lambda, where)
+            if isinstance(node, ast.FunctionDef):
+                self.assertEqual(node.decorator_list, [], where)
+                told = node.args
+                self.assertEqual((told.posonlyargs, told.kwonlyargs, told.vararg, told.kwarg, told.defaults), ([], [], None, None, []))
+                self.assertFalse([part for part in ast.walk(node) if isinstance(part, ast.FunctionDef) and part != node], where)
+
+    def test_errors(self):
+        """L19: the package's own errors, made on the spot; Python's own are not caught."""
+        own = {node.name for _, node in self.each_node() if isinstance(node, ast.ClassDef)}
+        for where, node in self.each_node():
+            if isinstance(node, ast.ExceptHandler):
+                self.assertIn(node.type.id, own, where)
+            if isinstance(node, ast.Raise):
+                self.assertIn(node.exc.func.id, own, where)
+            if isinstance(node, ast.Try):
+                self.assertEqual(node.finalbody, [], where)
+
+    def test_iterated_at_once(self):
+        """L23, L24: zip and the like stand where they are iterated, and sets are not kept."""
+        for path in FILES:
+            tree = tree_of(path)
+            above = {child: node for node in ast.walk(tree) for child in ast.iter_child_nodes(node)}
+            for node in ast.walk(tree):
+                parent = above.get(node)
+                where = f"{path.name}:{getattr(node, 'lineno', 0)}"
+                called = parent.func.id if isinstance(parent, ast.Call) and isinstance(parent.func, ast.Name) else None
+                name = getattr(getattr(node, "func", None), "id", getattr(getattr(node, "func", None), "attr", None))
+                if isinstance(node, ast.Call) and (name in AT_ONCE or name in ("items", "keys", "values")):
+                    self.assertTrue(isinstance(parent, (ast.For, ast.comprehension)) or called in TAKING, where)
+                if isinstance(node, (ast.Set, ast.SetComp)) or (isinstance(node, ast.Call) and name == "set"):
+                    self.assertIn(called, ("sorted", "len"), where)
+                if isinstance(node, ast.Call) and node.keywords:
+                    self.assertLessEqual({keyword.arg for keyword in node.keywords}, KEYWORDS.get(name, set()), where)
 
 
 if __name__ == "__main__":
