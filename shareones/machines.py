@@ -96,11 +96,11 @@ def held_first(piece):
             return None
 
 
-def bits_asked(piece, bits):
-    """Tell the list of the bits of the pieces that a piece asks of."""
+def bits_asked(asks, bits):
+    """Tell the list of the bits of the pieces that are asked of."""
     # A piece that has no bit yet, or is not there at all, counts as 0: late and keeper do not need
     # it yet, and for the others it is beyond the bounds, but nothing is to be raised for it.
-    return [bits.get(asked, 0) for asked in asks_of(piece)]
+    return [bits.get(asked, 0) for asked in asks]
 
 
 def bit_of(piece, number, held, asked):
@@ -143,6 +143,7 @@ class Machine:
 
     def __init__(self, pieces):
         self.pieces = pieces
+        self.asks = [asks_of(piece) for piece in pieces]
         self.numbers = [numbers_of(piece) for piece in pieces]
         self.common = common_length(self.numbers)
         self.held = [held_first(piece) for piece in pieces]
@@ -155,11 +156,11 @@ class Machine:
         bits = {}
         for at, piece in enumerate(self.pieces):
             number = self.numbers[at][self.beats % len(self.numbers[at])]
-            bits[at] = bit_of(piece, number, self.held[at], bits_asked(piece, bits))
+            bits[at] = bit_of(piece, number, self.held[at], bits_asked(self.asks[at], bits))
             self.counts[at] += bits[at]
         for at in self.holding:
-            piece = self.pieces[at]
-            self.held[at] = held_behind(piece, self.held[at], bits[at], bits_asked(piece, bits))
+            asked = bits_asked(self.asks[at], bits)
+            self.held[at] = held_behind(self.pieces[at], self.held[at], bits[at], asked)
         self.beats += 1
         return tuple(bits.values())
 
@@ -186,28 +187,37 @@ def run(pieces, beats):
     return [tuple(bits[at] for bits in told) for at in range(len(pieces))]
 
 
-def settles(pieces):
-    """Tell (ahead, round): from which beat on all comes again, and behind how many; None where that is too far."""
+def run_to_settle(pieces):
+    """Tell (ahead, told): from which beat on all comes again, and the bits of all beats until it does, or None."""
     machine = Machine(pieces)
     seen = {}
-    while machine.beats_now() <= MOST_SETTLING:
+    told = []
+    while len(told) <= MOST_SETTLING:
         held = machine.held_now()
         if held in seen:
-            return (seen[held], machine.beats_now() - seen[held])
-        seen[held] = machine.beats_now()
-        machine.beat()
+            return (seen[held], told)
+        seen[held] = len(told)
+        told.append(machine.beat())
     return None
+
+
+def settles(pieces):
+    """Tell (ahead, round): from which beat on all comes again, and behind how many; None where that is too far."""
+    settled = run_to_settle(pieces)
+    if settled is None:
+        return None
+    ahead, told = settled
+    return (ahead, len(told) - ahead)
 
 
 def settled_row(pieces, number):
     """Tell a piece's bits ahead of where all comes again, and its row of the round from there on."""
-    settled = settles(pieces)
+    settled = run_to_settle(pieces)
     if settled is None:
         raise NoRound("this machine does not settle soon enough")
-    ahead, length = settled
-    rows = run(pieces, ahead + length)
+    ahead, told = settled
     # A piece that is not there is beyond the bounds, but nothing is to be raised for it: it has no ones.
-    row = rows[number] if 0 <= number < len(rows) else (0,) * (ahead + length)
+    row = tuple(bits[number] if 0 <= number < len(bits) else 0 for bits in told)
     return (row[:ahead], row[ahead:])
 
 
